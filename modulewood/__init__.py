@@ -1,0 +1,1 @@
+"""Modulewood: nets, and the groups that look alike from outside."""

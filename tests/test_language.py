@@ -1,0 +1,166 @@
+"""Holds the package's files against the rules of LANGUAGE.md that a walk over the code can see."""
+
+import ast
+import builtins
+import pathlib
+import re
+import unittest
+
+PACKAGE = pathlib.Path(__file__).resolve().parent.parent / "modulewood"
+
+NODES = (
+    "Module Import ImportFrom alias FunctionDef arguments arg ClassDef Lambda Assign AugAssign AnnAssign "
+    "If While For Return Break Continue Pass Raise Try ExceptHandler Expr Constant List Tuple Dict Set "
+    "BinOp UnaryOp BoolOp Compare IfExp Call Attribute Subscript Slice ListComp comprehension keyword "
+    "JoinedStr FormattedValue Name Load Store Add Sub Mult FloorDiv Mod Pow BitAnd BitOr BitXor LShift RShift "
+    "Invert USub UAdd Not And Or Eq NotEq Lt LtE Gt GtE Is IsNot In NotIn"
+).split()
+OWN_OF_PYTHON = (
+    "len range enumerate zip min max sum abs sorted reversed int str bool list tuple dict set frozenset "
+    "isinstance ord repr any all divmod Exception ValueError TypeError KeyError IndexError LookupError "
+    "ZeroDivisionError ArithmeticError OverflowError RuntimeError NotImplementedError AttributeError StopIteration"
+).split()
+METHODS = (
+    "append clear copy count endswith extend find get index insert isalnum isalpha isdigit islower isspace "
+    "isupper items join keys ljust lower lstrip partition pop remove replace reverse rfind rjust rpartition "
+    "rsplit rstrip setdefault split splitlines startswith strip update upper values zfill bit_length"
+).split()
+TWO_UNDERSCORES = "__init__ __eq__ __repr__ __str__ __len__".split()
+WORDS = (
+    r"\b(type|typing|typing_extensions|enum|Enum|IntEnum|StrEnum|Flag|IntFlag|Generic|Protocol|ABC|ABCMeta|"
+    r"namedtuple|NamedTuple|TypedDict|TYPE_CHECKING|abstractmethod)\b|dataclass|overload|contextmanager"
+)
+
+
+def package_files():
+    return sorted(path for path in PACKAGE.rglob("*") if path.is_file() and path.parent.name != "__pycache__")
+
+
+def bound_names(tree):
+    names = []
+    for node in ast.walk(tree):
+        if isinstance(node, ast.Name) and isinstance(node.ctx, ast.Store):
+            names.append(node.id)
+        elif isinstance(node, ast.arg):
+            names.append(node.arg)
+        elif isinstance(node, (ast.FunctionDef, ast.ClassDef)):
+            names.append(node.name)
+    return names
+
+
+def methods_of(trees):
+    return {node.name for tree in trees for kind in ast.walk(tree) if isinstance(kind, ast.ClassDef)
+            for node in kind.body if isinstance(node, ast.FunctionDef)}
+
+
+class Language(unittest.TestCase):
+    def setUp(self):
+        self.texts = {path: path.read_text("ascii") for path in package_files()}
+        self.trees = {path: ast.parse(text) for path, text in self.texts.items()}
+
+    def each_node(self):
+        return [(f"{path.name}:{getattr(node, 'lineno', 0)}", node)
+                for path, tree in self.trees.items() for node in ast.walk(tree)]
+
+    def test_files(self):
+        for path in self.texts:
+            self.assertRegex(path.name, r"^[a-z_][a-z0-9_]*\.py$")
+            self.assertNotRegex(path.name, r"^(test.*|site|conftest|sitecustomize|usercustomize)\.py$")
+            self.assertFalse(path.stem in vars(builtins) or re.search(WORDS, path.stem), path.name)
+            self.assertTrue((path.parent / "__init__.py").is_file())
+
+    def test_signs_sizes_and_words(self):
+        for path, text in self.texts.items():
+            self.assertRegex(text, r"\A[ -~\n]*\Z")
+            self.assertIsNone(re.search(WORDS, text), path.name)
+            self.assertLessEqual(len(text.split("\n")), 400, path.name)
+            self.assertLessEqual(max(map(len, text.split("\n"))), 120, path.name)
+
+    def test_functions(self):
+        for where, node in self.each_node():
+            if isinstance(node, (ast.FunctionDef, ast.Lambda)):
+                told = node.args
+                self.assertFalse(told.vararg or told.kwarg or told.kwonlyargs or told.posonlyargs, where)
+            if isinstance(node, ast.FunctionDef):
+                self.assertEqual(node.decorator_list, [], where)
+                self.assertLessEqual(node.end_lineno - node.lineno + 1, 40, where)
+
+    def test_classes(self):
+        for path, tree in self.trees.items():
+            for node in ast.walk(tree):
+                if isinstance(node, ast.ClassDef):
+                    self.assertIn(node, tree.body)
+                    self.assertTrue(len(node.bases) <= 1 and not node.keywords and not node.decorator_list)
+                    for part in node.body:
+                        self.assertIsInstance(part, (ast.FunctionDef, ast.Pass), f"{path.name}:{part.lineno}")
+
+    def test_statements_and_expressions(self):
+        for where, node in self.each_node():
+            self.assertIn(type(node).__name__, NODES, where)
+            if isinstance(node, (ast.For, ast.While)):
+                self.assertEqual(node.orelse, [], where)
+            if isinstance(node, ast.Try):
+                self.assertEqual(node.finalbody, [], where)
+            if isinstance(node, ast.Assign):
+                self.assertEqual(len(node.targets), 1, where)
+                self.assertIsInstance(node.targets[0], (ast.Name, ast.Attribute, ast.Subscript), where)
+            if isinstance(node, ast.ListComp):
+                self.assertTrue(len(node.generators) == 1 and len(node.generators[0].ifs) <= 1, where)
+            if isinstance(node, ast.Constant):
+                self.assertIn(type(node.value), (int, str, bool, type(None)), where)
+                self.assertNotIn("%", str(node.value), where)
+            if isinstance(node, ast.Compare) and isinstance(node.ops[0], (ast.Is, ast.IsNot)):
+                self.assertIsInstance(node.comparators[0], ast.Constant, where)
+
+    def test_names(self):
+        for path, tree in self.trees.items():
+            bound = bound_names(tree)
+            for name in bound:
+                self.assertTrue(name in TWO_UNDERSCORES or re.fullmatch(r"[A-Za-z][A-Za-z0-9_]*", name), name)
+                self.assertFalse(name in vars(builtins) and not self.is_method(tree, name), f"{path.name}: {name}")
+            drawn = [told.name for node in tree.body if isinstance(node, ast.ImportFrom) for told in node.names]
+            for node in ast.walk(tree):
+                if isinstance(node, ast.Name) and node.id not in bound and node.id not in drawn:
+                    self.assertIn(node.id, OWN_OF_PYTHON, f"{path.name}:{node.lineno}")
+
+    def is_method(self, tree, name):
+        return name in methods_of([tree])
+
+    def test_attributes_that_are_called(self):
+        own = methods_of(self.trees.values())
+        for where, node in self.each_node():
+            if isinstance(node, ast.Call) and isinstance(node.func, ast.Attribute):
+                self.assertIn(node.func.attr, set(METHODS) | own | set(TWO_UNDERSCORES), where)
+
+    def test_imports(self):
+        draws = {}
+        for path, tree in self.trees.items():
+            draws[path.stem] = []
+            for node in ast.walk(tree):
+                self.assertNotIsInstance(node, ast.Import, path.name)
+                if isinstance(node, ast.ImportFrom):
+                    self.assertIn(node, tree.body)
+                    self.assertTrue(node.level == 0 and node.module.startswith("modulewood."), path.name)
+                    source = node.module.split(".")[1]
+                    draws[path.stem].append(source)
+                    self.defines_each(source, node)
+        self.assertEqual(draws["__init__"], [])
+        self.no_circle(draws)
+
+    def defines_each(self, source, node):
+        defined = bound_names(self.trees[PACKAGE / f"{source}.py"])
+        for told in node.names:
+            self.assertIsNone(told.asname)
+            self.assertIn(told.name, defined)
+
+    def no_circle(self, draws):
+        left = dict(draws)
+        while left:
+            free = [name for name in left if not any(source in left for source in left[name])]
+            self.assertTrue(free, f"files that draw from one another: {sorted(left)}")
+            for name in free:
+                del left[name]
+
+
+if __name__ == "__main__":
+    unittest.main()
