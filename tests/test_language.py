@@ -25,6 +25,13 @@ METHODS = (
     "isupper items join keys ljust lower lstrip partition pop remove replace reverse rfind rjust rpartition "
     "rsplit rstrip setdefault split splitlines startswith strip update upper values zfill bit_length"
 ).split()
+NOT_AS_NAMES = (
+    "attrgetter breakpoint builtins compile copyright credits delattr dir eval exec exit gc getattr globals hasattr "
+    "help id importlib license locals methodcaller os quit setattr super type vars sys __name__ register mro elements "
+    "open input version_info with_traceback add_note"
+).split()
+WALKED = "zip enumerate reversed range items keys values".split()
+WALKERS = "list tuple dict sorted sum any all enumerate zip min max join".split()
 TWO_UNDERSCORES = "__init__ __eq__ __repr__ __str__ __len__".split()
 WORDS = (
     r"\b(type|typing|typing_extensions|enum|Enum|IntEnum|StrEnum|Flag|IntFlag|Generic|Protocol|ABC|ABCMeta|"
@@ -46,6 +53,17 @@ def bound_names(tree):
         elif isinstance(node, (ast.FunctionDef, ast.ClassDef)):
             names.append(node.name)
     return names
+
+
+def called(node):
+    """The name that a call calls, be it a function's or a method's; of other nodes None."""
+    if not isinstance(node, ast.Call):
+        return None
+    return node.func.id if isinstance(node.func, ast.Name) else getattr(node.func, "attr", None)
+
+
+def with_what_holds_it(tree):
+    return [(node, held) for node in ast.walk(tree) for held in ast.iter_child_nodes(node)]
 
 
 def methods_of(trees):
@@ -122,6 +140,51 @@ class Language(unittest.TestCase):
             for node in ast.walk(tree):
                 if isinstance(node, ast.Name) and node.id not in bound and node.id not in drawn:
                     self.assertIn(node.id, OWN_OF_PYTHON, f"{path.name}:{node.lineno}")
+
+    def test_names_that_are_not_used(self):
+        for where, node in self.each_node():
+            if isinstance(node, ast.Name):
+                self.assertNotIn(node.id, NOT_AS_NAMES, where)
+            if isinstance(node, ast.Attribute):
+                self.assertNotIn(node.attr, ("format", "format_map", "mro", "register", "elements", "open"), where)
+
+    def test_no_local_is_called_like_an_import_or_a_class(self):
+        for path, tree in self.trees.items():
+            drawn = [told.name for node in tree.body if isinstance(node, ast.ImportFrom) for told in node.names]
+            classes = [node.name for node in tree.body if isinstance(node, ast.ClassDef)]
+            for name in drawn + classes:
+                self.assertEqual(bound_names(tree).count(name), classes.count(name), f"{path.name}: {name}")
+
+    def test_each_name_of_a_files_top_is_bound_once(self):
+        for path, tree in self.trees.items():
+            top = [node.name for node in tree.body if isinstance(node, (ast.FunctionDef, ast.ClassDef))]
+            top += [node.targets[0].id for node in tree.body if isinstance(node, ast.Assign)]
+            self.assertEqual(len(top), len(set(top)), path.name)
+
+    def test_what_stands_by_itself_is_a_call(self):
+        for path, tree in self.trees.items():
+            for node in ast.walk(tree):
+                if isinstance(node, ast.Expr) and node is not tree.body[0]:
+                    self.assertIsInstance(node.value, ast.Call, f"{path.name}:{node.lineno}")
+
+    def test_sets_are_asked_on_the_spot(self):
+        for path, tree in self.trees.items():
+            for holder, node in with_what_holds_it(tree):
+                if called(node) in ("set", "frozenset"):
+                    well = isinstance(holder, (ast.Compare, ast.BinOp)) or called(holder) in ("sorted", "len")
+                    self.assertTrue(well, f"{path.name}:{node.lineno}")
+
+    def test_walked_at_once(self):
+        for path, tree in self.trees.items():
+            for holder, node in with_what_holds_it(tree):
+                if called(node) in WALKED:
+                    well = isinstance(holder, (ast.For, ast.comprehension)) or called(holder) in WALKERS
+                    self.assertTrue(well, f"{path.name}:{node.lineno}")
+
+    def test_exponents_are_written(self):
+        for where, node in self.each_node():
+            if isinstance(node, ast.BinOp) and isinstance(node.op, ast.Pow):
+                self.assertTrue(isinstance(node.right, ast.Constant) and 0 <= node.right.value <= 64, where)
 
     def is_method(self, tree, name):
         return name in methods_of([tree])

@@ -3,7 +3,8 @@ import itertools
 import random
 import unittest
 
-from modulewood.errors import NetError, NoColours, NoNet, NoPlace, SamePlace, Taken
+from helper import RefusalCase
+from modulewood.errors import NoColours, NoNet, NoPlace, SamePlace, Taken
 from modulewood.nets import colour, net_from, recoloured, with_place, without_place
 
 GREAT = 10 ** 150
@@ -12,17 +13,7 @@ FULL = net_from([2 * k for k in range(24)], [(0, 2, 7)])
 LONE = ((6,), ((),))
 
 
-class NetCase(unittest.TestCase):
-    def refuse(self, refusal, ask, *handed):
-        kept = copy.deepcopy(handed)
-        with self.assertRaises(NetError) as caught:
-            ask(*handed)
-        self.assertIs(type(caught.exception), refusal)
-        self.assertIsInstance(caught.exception, ValueError)
-        self.assertEqual(handed, kept)
-
-
-class Colour(NetCase):
+class Colour(RefusalCase):
     def test_each_two_places_from_both_sides(self):
         for one, other, told in [(2, 5, 1), (2, 9, 3), (5, 9, 4)]:
             self.assertEqual(colour(SMALL, one, other), told)
@@ -51,7 +42,7 @@ class Colour(NetCase):
         self.assertEqual(colour(net=SMALL, one=2, other=9), 3)
 
 
-class Recoloured(NetCase):
+class Recoloured(RefusalCase):
     def test_two_places_get_another_colour(self):
         self.assertEqual(recoloured(SMALL, 2, 9, 8), ((2, 5, 9), ((), (1,), (8, 4))))
         self.assertEqual(recoloured(SMALL, 9, 2, 8), ((2, 5, 9), ((), (1,), (8, 4))))
@@ -77,7 +68,7 @@ class Recoloured(NetCase):
         self.assertEqual(recoloured(net=SMALL, one=2, other=9, colour=3), SMALL)
 
 
-class WithPlace(NetCase):
+class WithPlace(RefusalCase):
     def test_behind_the_others(self):
         self.assertEqual(with_place(SMALL, 10, [6, 7, 8]), ((2, 5, 9, 10), ((), (1,), (3, 4), (6, 7, 8))))
 
@@ -126,7 +117,7 @@ class WithPlace(NetCase):
         self.assertEqual(with_place(net=LONE, place=1, colours=[4]), ((1, 6), ((), (4,))))
 
 
-class WithoutPlace(NetCase):
+class WithoutPlace(RefusalCase):
     def test_each_place(self):
         self.assertEqual(without_place(SMALL, 2), ((5, 9), ((), (4,))))
         self.assertEqual(without_place(SMALL, 5), ((2, 9), ((), (3,))))
@@ -153,7 +144,7 @@ class WithoutPlace(NetCase):
         self.assertEqual(without_place(net=SMALL, place=2), ((5, 9), ((), (4,))))
 
 
-class AgainstPlainTables(NetCase):
+class AgainstPlainTables(RefusalCase):
     """Many changes in a row, held against a table of pairs that is kept beside the net."""
 
     def check(self, net, table):

@@ -1,0 +1,139 @@
+"""What the tests share: refusals, nets and woods made plainly, and groups looked up over all sets."""
+
+import copy
+import itertools
+import unittest
+
+from modulewood.errors import NetError
+
+GREAT = 10 ** 100
+
+
+class RefusalCase(unittest.TestCase):
+    def refuse(self, refusal, ask, *handed):
+        kept = copy.deepcopy(handed)
+        with self.assertRaises(NetError) as caught:
+            ask(*handed)
+        self.assertIs(type(caught.exception), refusal)
+        self.assertIsInstance(caught.exception, ValueError)
+        self.assertEqual(handed, kept)
+
+
+def tint(net, one, other):
+    places, rows = net
+    i, j = places.index(one), places.index(other)
+    return rows[max(i, j)][min(i, j)]
+
+
+def net_by(places, colour_of):
+    """The net whose two places have the colour that colour_of(greater, less) tells."""
+    rising = tuple(sorted(places))
+    return (rising, tuple(tuple(colour_of(rising[i], rising[j]) for j in range(i)) for i in range(len(rising))))
+
+
+def random_net(chance, places, colours):
+    return net_by(places, lambda one, other: chance.choice(colours))
+
+
+def clumped_net(chance, places, colours):
+    """A net with groups within groups: now and then a set of places gets one colour with each place outside."""
+    if len(places) == 1:
+        return net_by(places, None)
+    if chance.randrange(4) == 0:
+        return random_net(chance, places, colours)
+    mixed = chance.sample(sorted(places), len(places))
+    cut = sorted(chance.sample(range(1, len(mixed)), min(len(mixed) - 1, chance.randrange(1, 4))))
+    parts = [mixed[a:b] for a, b in zip([0] + cut, cut + [len(mixed)])]
+    inner = [clumped_net(chance, part, colours) for part in parts]
+    same = chance.choice([None] + list(colours))
+    outer = {(i, j): same if same is not None else chance.choice(colours)
+             for i in range(len(parts)) for j in range(i)}
+
+    def colour_of(one, other):
+        i, = [k for k, part in enumerate(parts) if one in part]
+        j, = [k for k, part in enumerate(parts) if other in part]
+        return tint(inner[i], one, other) if i == j else outer[max(i, j), min(i, j)]
+
+    return net_by(places, colour_of)
+
+
+def all_nets(places, colours):
+    rising = tuple(sorted(places))
+    pairs = [(i, j) for i in range(len(rising)) for j in range(i)]
+    for row in itertools.product(colours, repeat=len(pairs)):
+        told = iter(row)
+        yield (rising, tuple(tuple(next(told) for j in range(i)) for i in range(len(rising))))
+
+
+def all_sets(places):
+    for size in range(1, len(places) + 1):
+        for some in itertools.combinations(sorted(places), size):
+            yield list(some)
+
+
+def partings(places):
+    """Every parting of the places, rising, into lists, in order of their least places."""
+    if not places:
+        yield []
+        return
+    for others in partings(places[1:]):
+        yield [[places[0]]] + others
+        for k in range(len(others)):
+            yield [[places[0]] + others[k]] + others[:k] + others[k + 1:]
+
+
+def looks_alike(net, some):
+    return all(len({tint(net, place, one) for one in some}) == 1 for place in net[0] if place not in some)
+
+
+def all_groups(net):
+    return [some for some in all_sets(net[0]) if looks_alike(net, some)]
+
+
+def closed(net, some):
+    """The least group that has the set: whoever tells two of it apart comes in, until there is none."""
+    group = set(some)
+    while True:
+        came = {place for place in net[0] if place not in group
+                and len({tint(net, place, one) for one in group}) > 1}
+        if not came:
+            return sorted(group)
+        group |= came
+
+
+PATH = ((), (1,), (0, 1), (0, 0, 1))
+
+
+def path_rows(length):
+    return tuple(tuple(int(i - j == 1) for j in range(i)) for i in range(length))
+
+
+def has_plain_groups_alone(net):
+    return all(closed(net, ends) == list(net[0]) for ends in itertools.combinations(net[0], 2))
+
+
+def leaves(wood):
+    return [wood] if isinstance(wood, int) else [place for branch in wood[2] for place in leaves(branch)]
+
+
+def prime_rows(chance, length, colours):
+    while True:
+        net = random_net(chance, range(length), colours)
+        if has_plain_groups_alone(net):
+            return net[1]
+
+
+def random_wood(chance, places, colours, above=None):
+    """A wood over the places; above is the colour of the flat knot that it hangs on, if it does."""
+    if len(places) == 1:
+        return places[0]
+    mixed = chance.sample(sorted(places), len(places))
+    count = min(len(mixed), chance.randrange(2, 7))
+    cut = sorted(chance.sample(range(1, len(mixed)), count - 1))
+    parts = [mixed[a:b] for a, b in zip([0] + cut, cut + [len(mixed)])]
+    parts = sorted(parts, key=min)
+    if count >= 4 and chance.randrange(2):
+        rows = prime_rows(chance, count, colours)
+        return ("prime", rows, tuple(random_wood(chance, part, colours) for part in parts))
+    colour = chance.choice([colour for colour in colours if colour != above])
+    return ("flat", colour, tuple(random_wood(chance, part, colours, colour) for part in parts))
