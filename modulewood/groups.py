@@ -49,6 +49,10 @@ def pulls_from(sights, members):
     return pulls
 
 
+def draws_all(sights, one, other):
+    return len(pulls_from(sights, [one, other])) + 2 == len(sights)
+
+
 def shares_by(sight, members):
     shares = {}
     for member in members:
@@ -93,6 +97,6 @@ def is_prime(net):
     rest = list(net[0][1:])
     sights = sights_of(net)
     for other in rest:
-        if len(pulls_from(sights, [first, other])) + 2 < len(net[0]):
+        if not draws_all(sights, first, other):
             return False
     return len(greatest_within(net, rest)) == len(rest)

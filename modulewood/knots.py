@@ -5,6 +5,10 @@ def is_leaf(knot):
     return isinstance(knot, int)
 
 
+def is_flat(knot):
+    return not is_leaf(knot) and knot[0] == "flat"
+
+
 def branches_of(knot):
     return () if is_leaf(knot) else knot[2]
 
@@ -25,7 +29,7 @@ def leaves_of(wood):
 
 
 def tint_between(knot, one, other):
-    if knot[0] == "flat":
+    if is_flat(knot):
         return knot[1]
     return knot[1][max(one, other)][min(one, other)]
 

@@ -23,3 +23,7 @@ def checked_set(places, some):
     if len(some) == 0:
         raise NoSet("a set has a place at least")
     return sorted(set(some))
+
+
+def in_order(sets):
+    return sorted(sets, key=lambda some: (len(some), some))

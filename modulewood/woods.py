@@ -1,9 +1,9 @@
 """Woods: their places, colours, nets and knots, and whether a thing is a wood."""
 
 from modulewood.groups import is_prime
-from modulewood.knots import branches_of, has_form_throughout, is_leaf, knots_down, leaves_of, tint_between
+from modulewood.knots import branches_of, has_form_throughout, is_flat, is_leaf, knots_down, leaves_of, tint_between
 from modulewood.nets import MOST_PLACES, net_with, pair
-from modulewood.sets import require_two
+from modulewood.sets import in_order, require_two
 
 
 def places_of(wood):
@@ -45,12 +45,11 @@ def net_of(wood):
 
 
 def knots(wood):
-    told = [places_of(knot) for knot in knots_down(wood)]
-    return sorted(told, key=lambda some: (len(some), some))
+    return in_order([places_of(knot) for knot in knots_down(wood)])
 
 
 def is_flat_of(knot, tint):
-    return not is_leaf(knot) and knot[0] == "flat" and knot[1] == tint
+    return is_flat(knot) and knot[1] == tint
 
 
 def is_sound(knot):
@@ -59,7 +58,7 @@ def is_sound(knot):
     leasts = [min(leaves_of(branch)) for branch in branches_of(knot)]
     if leasts != sorted(leasts):
         return False
-    if knot[0] == "flat":
+    if is_flat(knot):
         return not any([is_flat_of(branch, knot[1]) for branch in branches_of(knot)])
     return is_prime((tuple(range(len(leasts))), knot[1]))
 

@@ -2,6 +2,7 @@
 
 import copy
 import itertools
+import random
 import unittest
 
 from modulewood.errors import NetError
@@ -102,6 +103,7 @@ def closed(net, some):
 
 
 PATH = ((), (1,), (0, 1), (0, 0, 1))
+THREE = ((), (1,), (2, 3))
 
 
 def path_rows(length):
@@ -132,8 +134,52 @@ def random_wood(chance, places, colours, above=None):
     cut = sorted(chance.sample(range(1, len(mixed)), count - 1))
     parts = [mixed[a:b] for a, b in zip([0] + cut, cut + [len(mixed)])]
     parts = sorted(parts, key=min)
-    if count >= 4 and chance.randrange(2):
+    # Three branches are prime with three unlike colours alone.
+    if count >= (3 if len(colours) > 2 else 4) and chance.randrange(2):
         rows = prime_rows(chance, count, colours)
         return ("prime", rows, tuple(random_wood(chance, part, colours) for part in parts))
     colour = chance.choice([colour for colour in colours if colour != above])
     return ("flat", colour, tuple(random_wood(chance, part, colours, colour) for part in parts))
+
+
+FLAT = ("flat", 4, (2, 5, 9))
+PRIME = ("prime", PATH, (1, 3, 6, 8))
+MIXED = ("flat", 7, (("prime", THREE, (0, ("flat", 7, (4, 11)), 6)), 5, ("flat", GREAT, (9, GREAT))))
+WOODS = (0, GREAT, FLAT, PRIME, MIXED)
+
+
+def ladder(leaf, steps):
+    """Flat woods within one another, two tuples a step; the leaf lies innermost."""
+    thing = leaf
+    for k in range(1, steps + 1):
+        thing = ("flat", k % 2, (thing, k))
+    return thing
+
+
+def many_woods(sizes, times):
+    yield from WOODS
+    chance = random.Random(15)
+    for size in sizes:
+        places = [3 * k + GREAT * (k // 4) for k in range(size)]
+        for colours in ([0, 1], [2, 5, GREAT]):
+            for turn in range(times):
+                yield random_wood(chance, places, colours)
+
+
+def wood_by_groups(net):
+    """The wood of a small net: its knots are the groups that no other group cuts."""
+    groups = [frozenset(some) for some in all_groups(net)]
+    uncut = [group for group in groups if all(group <= other or other <= group or not group & other
+                                              for other in groups)]
+
+    def grown(group):
+        within = [other for other in uncut if other < group]
+        parts = sorted((part for part in within if not any(part < other for other in within)), key=min)
+        if not parts:
+            return min(group)
+        rows = net_by([min(part) for part in parts], lambda one, other: tint(net, one, other))[1]
+        branches = tuple(grown(part) for part in parts)
+        tints = {colour for row in rows for colour in row}
+        return ("flat", min(tints), branches) if len(tints) == 1 else ("prime", rows, branches)
+
+    return grown(frozenset(net[0]))

@@ -2,13 +2,10 @@ import itertools
 import random
 import unittest
 
-from helper import (GREAT, PATH, all_nets, has_plain_groups_alone, leaves, partings, path_rows, random_net,
-                    random_wood)
+from helper import (FLAT, GREAT, PATH, PRIME, THREE, all_nets, has_plain_groups_alone, ladder, leaves, partings,
+                    path_rows, random_net, random_wood)
 from modulewood.woods import is_wood, net_of
 
-FLAT = ("flat", 4, (2, 5, 9))
-PRIME = ("prime", PATH, (1, 3, 6, 8))
-THREE = ((), (1,), (2, 3))
 NO_NUMBERS = (-1, -GREAT, True, False, None, "", "0", "1", "flat", (), (0,), (0, 1), FLAT)
 # The same in the place of a leaf, where whole woods may stand.
 NO_WOODS = NO_NUMBERS[:-1]
@@ -44,14 +41,6 @@ def woods_by_the_words(thing):
 def is_wood_by_the_words(thing):
     places = woods_by_the_words(thing)
     return places is not None and len(places) <= 24
-
-
-def ladder(leaf, steps):
-    """Flat woods within one another, two tuples a step; the leaf lies innermost."""
-    thing = leaf
-    for k in range(1, steps + 1):
-        thing = ("flat", k % 2, (thing, k))
-    return thing
 
 
 def framed(thing):

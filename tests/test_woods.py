@@ -1,26 +1,13 @@
 import copy
 import itertools
-import random
 import unittest
 
-from helper import GREAT, PATH, RefusalCase, leaves, looks_alike, net_by, path_rows, random_wood
+from helper import (FLAT, GREAT, MIXED, PATH, PRIME, WOODS, RefusalCase, leaves, looks_alike, many_woods, net_by,
+                    path_rows)
 from modulewood.errors import NoPlace, SamePlace
 from modulewood.woods import colour_in, is_wood, knots, net_of, places_of
 
-FLAT = ("flat", 4, (2, 5, 9))
-PRIME = ("prime", PATH, (1, 3, 6, 8))
-MIXED = ("flat", 7, (("prime", ((), (1,), (2, 3)), (0, ("flat", 7, (4, 11)), 6)), 5, ("flat", GREAT, (9, GREAT))))
-WOODS = (0, GREAT, FLAT, PRIME, MIXED)
-
-
-def many_woods():
-    yield from WOODS
-    chance = random.Random(15)
-    for size in (2, 3, 5, 9, 24):
-        places = [3 * k + GREAT * (k // 4) for k in range(size)]
-        for colours in ([0, 1], [2, 5, GREAT]):
-            for turn in range(8):
-                yield random_wood(chance, places, colours)
+SIZES = (2, 3, 5, 9, 24)
 
 
 def all_knots(wood):
@@ -47,7 +34,7 @@ class Places(unittest.TestCase):
         self.assertEqual(places_of(("flat", 0, (("flat", 1, (0, 9)), 3, ("flat", 2, (4, 5))))), [0, 3, 4, 5, 9])
 
     def test_of_many(self):
-        for wood in many_woods():
+        for wood in many_woods(SIZES, 8):
             told = places_of(wood)
             self.assertIs(type(told), list)
             self.assertEqual(told, sorted(leaves(wood)))
@@ -63,7 +50,7 @@ class Colour(RefusalCase):
             self.assertEqual(colour_in(wood, other, one), told)
 
     def test_what_the_smallest_knot_tells_from_both_sides(self):
-        for wood in many_woods():
+        for wood in many_woods(SIZES, 8):
             for one, other in itertools.permutations(leaves(wood), 2):
                 self.assertEqual(colour_in(wood, one, other), colour_by_the_smallest_knot(wood, one, other))
 
@@ -98,7 +85,7 @@ class Net(unittest.TestCase):
         self.assertEqual(net_of(("flat", GREAT, places)), net_by(places, lambda one, other: GREAT))
 
     def test_of_many(self):
-        for wood in many_woods():
+        for wood in many_woods(SIZES, 8):
             told = net_of(wood)
             self.assertEqual(told, net_by(leaves(wood), lambda a, b: colour_by_the_smallest_knot(wood, a, b)))
             self.assertEqual([type(part) for part in told], [tuple, tuple])
@@ -119,7 +106,7 @@ class Knots(unittest.TestCase):
                                        [2, 4, 5, 10, 11, 12, 30, 100]])
 
     def test_of_many(self):
-        for wood in many_woods():
+        for wood in many_woods(SIZES, 8):
             told = knots(wood)
             self.assertIs(type(told), list)
             self.assertEqual({type(knot) for knot in told}, {list})
@@ -128,7 +115,7 @@ class Knots(unittest.TestCase):
             self.assertEqual(len({tuple(knot) for knot in told}), len(told))
 
     def test_each_is_a_group_of_the_net(self):
-        for wood in many_woods():
+        for wood in many_woods(SIZES, 8):
             net = net_of(wood)
             for knot in knots(wood):
                 self.assertTrue(looks_alike(net, knot))
