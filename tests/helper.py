@@ -183,3 +183,54 @@ def wood_by_groups(net):
         return ("flat", min(tints), branches) if len(tints) == 1 else ("prime", rows, branches)
 
     return grown(frozenset(net[0]))
+
+
+def inner_knots(wood):
+    """The sets of the knots of two places or more, by how many places they have, then as lists."""
+    found, waiting = [], [wood]
+    while waiting:
+        knot = waiting.pop()
+        if not isinstance(knot, int):
+            found.append(sorted(leaves(knot)))
+            waiting.extend(knot[2])
+    return sorted(found, key=lambda some: (len(some), some))
+
+
+def came_and_fell(ahead, behind):
+    old, young = inner_knots(ahead), inner_knots(behind)
+    return [some for some in young if some not in old], [some for some in old if some not in young]
+
+
+def put_in(net, place, colours):
+    seen = dict(zip(net[0], colours))
+    return net_by(net[0] + (place,), lambda one, other: seen[other] if one == place else
+                  seen[one] if other == place else tint(net, one, other))
+
+
+def taken_out(net, place):
+    return net_by([other for other in net[0] if other != place], lambda one, other: tint(net, one, other))
+
+
+def tied(net, ends, colour):
+    return net_by(net[0], lambda one, other: colour if {one, other} == set(ends) else tint(net, one, other))
+
+
+def drawn_deed(chance, net, places, colours):
+    """A deed that is not refused, as a tuple (name, handed in), and the net behind it."""
+    free = [place for place in places if place not in net[0]]
+    kinds = ["tie", "take"] if len(net[0]) > 1 else []
+    kinds += ["put", "put"] if free and len(net[0]) < 24 else []
+    kind = chance.choice(kinds)
+    if kind == "put":
+        place, like = chance.choice(free), chance.choice(net[0])
+        # Now and then a place like another one, so that groups come, too.
+        drawn = [chance.choice(colours) if other == like else tint(net, like, other) for other in net[0]]
+        if chance.randrange(3) == 0:
+            drawn = [chance.choice(colours) for other in net[0]]
+        return ("put", place, drawn), put_in(net, place, drawn)
+    if kind == "take":
+        place = chance.choice(net[0])
+        return ("take", place), taken_out(net, place)
+    one, other = chance.sample(net[0], 2)
+    colour = chance.choice(colours)
+    return ("tie", one, other, colour), tied(net, (one, other), colour)

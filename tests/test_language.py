@@ -32,6 +32,7 @@ NOT_AS_NAMES = (
 ).split()
 WALKED = "zip enumerate reversed range items keys values".split()
 WALKERS = "list tuple dict sorted sum any all enumerate zip min max join".split()
+FREE_VALUES = "count index title find get join lower upper split strip copy add".split()
 TWO_UNDERSCORES = "__init__ __eq__ __repr__ __str__ __len__".split()
 WORDS = (
     r"\b(type|typing|typing_extensions|enum|Enum|IntEnum|StrEnum|Flag|IntFlag|Generic|Protocol|ABC|ABCMeta|"
@@ -66,9 +67,19 @@ def with_what_holds_it(tree):
     return [(node, held) for node in ast.walk(tree) for held in ast.iter_child_nodes(node)]
 
 
+def all_methods(trees):
+    return [node for tree in trees for kind in ast.walk(tree) if isinstance(kind, ast.ClassDef)
+            for node in kind.body if isinstance(node, ast.FunctionDef)]
+
+
 def methods_of(trees):
-    return {node.name for tree in trees for kind in ast.walk(tree) if isinstance(kind, ast.ClassDef)
-            for node in kind.body if isinstance(node, ast.FunctionDef)}
+    return {node.name for node in all_methods(trees)}
+
+
+def values_of(trees):
+    """The names of the values that objects are given."""
+    return {node.attr for tree in trees for node in ast.walk(tree)
+            if isinstance(node, ast.Attribute) and isinstance(node.ctx, ast.Store)}
 
 
 class Language(unittest.TestCase):
@@ -152,8 +163,10 @@ class Language(unittest.TestCase):
         for path, tree in self.trees.items():
             drawn = [told.name for node in tree.body if isinstance(node, ast.ImportFrom) for told in node.names]
             classes = [node.name for node in tree.body if isinstance(node, ast.ClassDef)]
+            methods = [node.name for node in all_methods([tree])]
             for name in drawn + classes:
-                self.assertEqual(bound_names(tree).count(name), classes.count(name), f"{path.name}: {name}")
+                self.assertEqual(bound_names(tree).count(name), (classes + methods).count(name),
+                                 f"{path.name}: {name}")
 
     def test_each_name_of_a_files_top_is_bound_once(self):
         for path, tree in self.trees.items():
@@ -194,6 +207,30 @@ class Language(unittest.TestCase):
         for where, node in self.each_node():
             if isinstance(node, ast.Call) and isinstance(node.func, ast.Attribute):
                 self.assertIn(node.func.attr, set(METHODS) | own | set(TWO_UNDERSCORES), where)
+
+    def test_methods_and_values(self):
+        own, values = methods_of(self.trees.values()), values_of(self.trees.values())
+        self.assertEqual(own & values, set())
+        for path, tree in self.trees.items():
+            for kind in ast.walk(tree):
+                if isinstance(kind, ast.ClassDef):
+                    names = [node.name for node in kind.body if isinstance(node, ast.FunctionDef)]
+                    self.assertEqual(len(names), len(set(names)), f"{path.name}:{kind.lineno}")
+        of_python = {name for kind in (str, int, list, tuple, dict, set, frozenset, bytes) for name in dir(kind)}
+        self.assertEqual(own & of_python - set(METHODS) - set(TWO_UNDERSCORES) - {"add", "discard"}, set())
+        self.assertEqual(values & of_python - set(FREE_VALUES), set())
+        self.assertEqual(values & {"args", "format"}, set())
+
+    def test_a_list_or_dict_of_a_files_top_is_only_read(self):
+        for path, tree in self.trees.items():
+            kept = [node.targets[0].id for node in tree.body if isinstance(node, ast.Assign)
+                    and isinstance(node.value, (ast.List, ast.Dict))]
+            for holder, node in with_what_holds_it(tree):
+                if isinstance(node, ast.Name) and node.id in kept and isinstance(node.ctx, ast.Load):
+                    well = isinstance(holder, (ast.Compare, ast.For, ast.comprehension))
+                    well = well or isinstance(holder, ast.Subscript) and isinstance(holder.ctx, ast.Load)
+                    well = well or called(holder) in ("len", "list", "dict", "sorted")
+                    self.assertTrue(well, f"{path.name}:{node.lineno}")
 
     def test_imports(self):
         draws = {}
