@@ -1,6 +1,6 @@
 """The wood of a net."""
 
-from modulewood.groups import draws_all, sights_of
+from modulewood.groups import draws_all, greatest_within, sights_of
 from modulewood.nets import part_of
 from modulewood.quotients import quotient
 
@@ -31,15 +31,12 @@ def flat_colour(sights):
     return None
 
 
-def prime_parts(sights):
-    outside = list(sights)
-    parts = []
-    while outside:
-        first = outside.pop(0)
-        part = [first] + [other for other in outside if not draws_all(sights, first, other)]
-        outside = [other for other in outside if other not in part]
-        parts.append(part)
-    return parts
+# No branches of a prime knot go together to a group but all of them: so the groups outside the first
+# place's branch are found as the greatest ones there, without asking for each two places.
+def prime_parts(net, sights):
+    first = net[0][0]
+    apart = [other for other in net[0][1:] if draws_all(sights, first, other)]
+    return [[place for place in net[0] if place not in apart]] + greatest_within(net, apart)
 
 
 # Each branch has fewer places than its net, so calls lie no deeper in one another than there are places.
@@ -54,5 +51,5 @@ def wood_of(net):
     tint = flat_colour(sights)
     if tint is not None:
         return ("flat", tint, woods_of(net, parts_held_without(sights, tint)))
-    parts = prime_parts(sights)
+    parts = prime_parts(net, sights)
     return ("prime", quotient(net, parts)[1], woods_of(net, parts))
