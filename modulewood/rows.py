@@ -26,7 +26,7 @@ KINDS = {
 
 
 def is_name(word):
-    return 1 <= len(word) <= MOST_LETTERS and all([sign in LETTERS for sign in word])
+    return len(word) > 0 and len(word) <= MOST_LETTERS and all([sign in LETTERS for sign in word])
 
 
 def is_row_number(word):
