@@ -14,7 +14,7 @@ from modulewood.groups import greatest_within, is_group, pulled, teller
 from modulewood.grove import Grove
 from modulewood.laying import common_wood, laid, least_common
 from modulewood.making import wood_of
-from modulewood.nets import net_from, part_of
+from modulewood.nets import colour, net_from, part_of, recoloured, with_place, without_place
 from modulewood.quotients import filled, quotient
 from modulewood.texts import read_wood, show_wood
 from modulewood.woods import colour_in, is_wood, knots, net_of, places_of
@@ -132,7 +132,7 @@ class Promise(unittest.TestCase):
             desk.say(f"new oak {net[0][0]}")
             for place, row in list(zip(net[0], net[1]))[1:]:
                 grove.put(place, list(row))
-                desk.say(" ".join(["put oak", str(place)] + [str(colour) for colour in row]))
+                desk.say(" ".join(["put oak", str(place)] + [str(number) for number in row]))
             self.assertEqual((grove.net(), grove.wood(), grove.group_count()), (net, wood, group_count(wood)))
             self.assertEqual(desk.say("wood oak"), text)
             self.assertEqual(desk.say("count oak"), str(group_count(wood)))
@@ -156,7 +156,9 @@ TELLING = (
     (has_group, WOOD, [1, 3]), (least_group, WOOD, [3, 1]), (greatest_in, WOOD, [9, 3, 1]), (groups, WOOD, 4),
     (groups, WOOD, 40), (wood_of, NET), (grafted, WOOD, 9, 10), (pruned, WOOD, [3, 1]),
     (with_leaf, WOOD, 2, [1, 2, 3, 4, 5]), (wood_recoloured, WOOD, 1, 3, 9), (laid, NET, NET),
-    (least_common, WOOD, WOOD, [3, 1]), (common_wood, WOOD, WOOD), (show_wood, WOOD),
+    (least_common, WOOD, WOOD, [3, 1]), (common_wood, WOOD, WOOD), (show_wood, WOOD), (read_wood, "{5 1 3}"),
+    (colour, NET, 1, 9), (recoloured, NET, 1, 9, 2), (with_place, NET, 2, [1, 2, 3, 4, 5]), (without_place, NET, 3),
+    (is_wood, WOOD), (group_count, WOOD),
 )
 
 
@@ -169,6 +171,13 @@ def lists_in(thing):
 
 
 class OverTheWhole(unittest.TestCase):
+    def test_every_function_of_the_interface_is_among_them(self):
+        names = """net_from colour recoloured with_place without_place part_of is_group teller pulled greatest_within
+                   quotient filled places_of colour_in net_of knots is_wood has_group least_group greatest_in
+                   group_count groups wood_of grafted pruned with_leaf wood_recoloured laid least_common common_wood
+                   show_wood read_wood""".split()
+        self.assertEqual({ask.__name__ for ask, *handed in TELLING}, set(names))
+
     def test_nothing_handed_in_is_changed_and_told_lists_are_the_askers_own(self):
         for ask, *handed in copy.deepcopy(TELLING):
             with self.subTest(ask.__name__):
